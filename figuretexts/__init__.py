@@ -1,0 +1,1 @@
+"""Figuretexts: numbers written by the customs of lands, and read back."""
