@@ -1,0 +1,16 @@
+"""Of anything: whether it is a whole number, or a text, of such a kind."""
+
+
+def is_whole(thing):
+    """Whether it is a whole number; a truth is none."""
+    return isinstance(thing, int) and not isinstance(thing, bool)
+
+
+def is_whole_between(thing, least, most):
+    """Whether it is a whole number from least to most."""
+    return is_whole(thing) and least <= thing <= most
+
+
+def is_signs(thing, fewest, most):
+    """Whether it is a text of so many signs, none of them a blank or a line end."""
+    return isinstance(thing, str) and fewest <= len(thing) <= most and " " not in thing and "\n" not in thing
