@@ -1,7 +1,7 @@
 """The customs by which a land writes its numbers."""
 
 from figuretexts.errors import NoCustom
-from figuretexts.kinds import is_signs, is_whole_between
+from figuretexts.kinds import is_signs, is_whole_between, told_or
 from figuretexts.options import ABOUT, BETWEEN, FIGURES, GROUP, LEAST, MINUS, PLUS, POINT, SIZES
 
 
@@ -10,7 +10,7 @@ class Custom:
 
     def __init__(self, *, point=POINT, group=GROUP, sizes=SIZES, least=LEAST, minus=MINUS, plus=PLUS, figures=FIGURES,
                  words=(), between=BETWEEN, about=ABOUT):
-        wrong = _first_wrong((
+        wrong = first_wrong((
             ("point", point), ("group", group), ("sizes", sizes), ("least", least), ("minus", minus), ("plus", plus),
             ("figures", figures), ("words", words), ("between", between), ("about", about),
         ))
@@ -46,27 +46,20 @@ class Custom:
             between=None, about=None):
         """The Custom with these fields otherwise; those left out, or None, are as here."""
         return Custom(
-            point=_told(point, self.point),
-            group=_told(group, self.group),
-            sizes=_told(sizes, self.sizes),
-            least=_told(least, self.least),
-            minus=_told(minus, self.minus),
-            plus=_told(plus, self.plus),
-            figures=_told(figures, self.figures),
-            words=_told(words, self.words),
-            between=_told(between, self.between),
-            about=_told(about, self.about),
+            point=told_or(point, self.point),
+            group=told_or(group, self.group),
+            sizes=told_or(sizes, self.sizes),
+            least=told_or(least, self.least),
+            minus=told_or(minus, self.minus),
+            plus=told_or(plus, self.plus),
+            figures=told_or(figures, self.figures),
+            words=told_or(words, self.words),
+            between=told_or(between, self.between),
+            about=told_or(about, self.about),
         )
 
 
-def _told(new, old):
-    """What is told anew; the old one where that is None (a field without signs is told, too)."""
-    if new is None:
-        return old
-    return new
-
-
-def _first_wrong(fields):
+def first_wrong(fields):
     """The first name of these (name, thing) of which the thing isn't so, or has a sign of one ahead; else None."""
     ahead = ""
     for name, thing in fields:
