@@ -69,9 +69,9 @@ def _first_wrong(places, figures, step, way, signs, grouped, scaled, unit):
         return "figures"
     if step is not None and (figures is not None or not is_step_within(step, places[1])):
         return "step"
-    if not _is_one_of(way, WAYS):
+    if way not in WAYS:
         return "way"
-    if not _is_one_of(signs, ALL_SIGNS):
+    if signs not in ALL_SIGNS:
         return "signs"
     if not isinstance(grouped, bool):
         return "grouped"
@@ -98,10 +98,6 @@ def is_step_within(thing, most):
         return False
     places = places_of(thing)
     return places is not None and places <= most
-
-
-def _is_one_of(thing, texts):
-    return isinstance(thing, str) and thing in texts
 
 
 def _is_unit(thing):

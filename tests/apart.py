@@ -62,11 +62,11 @@ def grouped_by(ahead, custom):
     if not custom.group or len(ahead) < custom.sizes[0] + custom.least:
         return ahead
     parts = []
-    for turn in range(len(ahead)):
-        size = (list(custom.sizes) + [custom.sizes[-1]] * len(ahead))[turn]
-        if ahead:
-            parts.insert(0, ahead[-size:])
-            ahead = ahead[:-size]
+    sizes = list(custom.sizes)
+    while ahead:
+        parts.insert(0, ahead[-sizes[0]:])
+        ahead = ahead[:-sizes[0]]
+        sizes = sizes[1:] or sizes
     return custom.group.join(parts)
 
 
@@ -82,15 +82,11 @@ def body_by(told, power, wish, custom):
         places = max(wish.figures - ahead, 0)
     whole = size * 10 ** places
     assert whole.denominator == 1
-    figures = str(whole.numerator).zfill(places + 1)
+    figures = "".join(custom.figures[int(figure)] for figure in str(whole.numerator).zfill(places + 1))
     ahead, behind = figures[:len(figures) - places], figures[len(figures) - places:]
-    text = grouped_by(ahead, custom) if wish.grouped else ahead
-    # The group signs and the point stand for themselves; they may be figures as Python writes them.
-    told_figures = {str(number): sign for number, sign in enumerate(custom.figures)}
-    groups = text.split(custom.group) if wish.grouped and custom.group else [text]
-    shown = custom.group.join("".join(told_figures[sign] for sign in part) for part in groups)
+    shown = grouped_by(ahead, custom) if wish.grouped else ahead
     if behind:
-        shown += custom.point + "".join(told_figures[sign] for sign in behind)
+        shown += custom.point + behind
     return shown + {0: "", **dict(custom.words)}[power]
 
 
