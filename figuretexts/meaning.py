@@ -38,7 +38,11 @@ def _rounded_at(number, power, wish):
     units = number.times(ten_to(-power))
     if wish.figures is not None:
         return to_figures(units, wish.figures, way=wish.way)
-    step = wish.step
-    if step is None:
-        step = ten_to(-wish.places[1])
-    return rounded(units, step, way=wish.way)
+    return rounded(units, step_of(wish), way=wish.way)
+
+
+def step_of(wish):
+    """The step by which a wish without figures rounds what stands there."""
+    if wish.step is None:
+        return ten_to(-wish.places[1])
+    return wish.step

@@ -114,6 +114,15 @@ def power_of(number):
     return power
 
 
+def total_of(numbers):
+    """The sum of these Numbers, one or more."""
+    if len(numbers) == 1:
+        return numbers[0]
+    # By halves, as the bottoms of sums may be great: so most sums are of few numbers.
+    half = len(numbers) // 2
+    return total_of(numbers[:half]).more(total_of(numbers[half:]))
+
+
 def ten_to(power):
     """10 ** power, as a Number; the power may be below 0."""
     great = 1

@@ -6,7 +6,7 @@ from figuretexts.options import WAY
 
 def neighbours(number, step):
     """The greatest multiple of the step that isn't above the number, and the least that isn't below it."""
-    low, high, _ = _place(number, step)
+    low, high, _ = place_of(number, step)
     return step.times(Number(low)), step.times(Number(high))
 
 
@@ -18,7 +18,7 @@ def rounded(number, step, *, way=WAY):
 
 def round_paper(number, step, *, way=WAY):
     """(low, high, taken): the steps of both neighbours, and of the one to which the number is rounded."""
-    low, high, part = _place(number, step)
+    low, high, part = place_of(number, step)
     if low == high:
         return low, high, low
     rule = way
@@ -30,8 +30,13 @@ def round_paper(number, step, *, way=WAY):
     return low, high, low
 
 
-def _place(number, step):
-    """The steps of both neighbours, and what part of a step the number is beyond the lesser one."""
+def is_step(thing):
+    """Whether it, anything, is a step: a Number above nought."""
+    return isinstance(thing, Number) and thing.top > 0
+
+
+def place_of(number, step):
+    """(low, high, part): the steps of both neighbours, and what part of a step the number is beyond the lesser one."""
     steps = number.over(step)
     low = steps.floor()
     part = steps.less(Number(low))

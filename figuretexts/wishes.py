@@ -4,6 +4,7 @@ from figuretexts.errors import NoWish
 from figuretexts.kinds import is_whole_between, told_or
 from figuretexts.numbers import Number, places_of
 from figuretexts.options import PLACES, SIGNS, UNIT, WAY, WAYS
+from figuretexts.rounding import is_step
 
 MOST_PLACES = 12
 MOST_FIGURES = 12
@@ -94,7 +95,7 @@ def _is_places(thing):
 
 def is_step_within(thing, most):
     """Whether it is a step that is written with so many places, at most, behind the point."""
-    if not isinstance(thing, Number) or thing.top <= 0:
+    if not is_step(thing):
         return False
     places = places_of(thing)
     return places is not None and places <= most
