@@ -31,6 +31,17 @@ def read_custom(text):
     return Custom(**told)
 
 
+def read_field(line):
+    """(name, field): what this line of a custom's text tells; NoText(0) where no custom has such a line."""
+    name = line.partition(" ")[0]
+    if name not in NAMES:
+        raise NoText(0)
+    field = _field(name, line)
+    if first_wrong(((name, field),)) is not None:
+        raise NoText(0)
+    return name, field
+
+
 def _line(name, field):
     """The line of this field of a custom."""
     show = SHOWS[name]
